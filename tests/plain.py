@@ -7,13 +7,16 @@ than the program does, so that a fault of the program isn't repeated here.
 import functools
 import itertools
 import re
+import unittest
 from collections import Counter
+from fractions import Fraction
 
 from unseenhands.table import answers
 
 SUITS = "CDHS"
 RANKS = "23456789TJQKA"
 DECK = range(52)
+HUGE = 10 ** 18
 
 
 # Lines of calls
@@ -59,6 +62,45 @@ def kth(k):
     return [8, k]
 
 
+def row_of(cards):
+    return [len(cards)] + list(cards)
+
+
+def place(cards):
+    return [9] + row_of(cards)
+
+
+def shapes(limit):
+    return [10, limit]
+
+
+POINTS = [11]
+
+
+def mean(what):
+    return [12, what]
+
+
+def met(which, cards):
+    return [13, which] + row_of(cards)
+
+
+def implies(text):
+    return [14] + text_row(text)
+
+
+def printed(which):
+    return [15, which]
+
+
+TOLD = [16]
+
+
+def bytes_answer(text):
+    """What print answers where this is the one text."""
+    return [0] + text_row(text)
+
+
 def ask(*calls):
     """The answers of a line, a list for each call."""
     flat = answers([number for call in calls for number in call])
@@ -75,8 +117,8 @@ def last(*calls):
 
 
 def probes():
-    """Two ends of a line that tell all that may be seen of an object."""
-    yield [COUNT, CHANCE] + [holds(card) for card in DECK] + [kth(0), kth(1), kth(7)]
+    """Ends of a line that tell all that may be seen of an object."""
+    yield [COUNT, CHANCE, TOLD, printed(0), printed(1)] + [holds(card) for card in DECK] + [kth(0), kth(1), kth(7)]
     # A refused take tells unseen cards from others, and known ones from the unknown.
     yield [hand("any"), rest("any"), COUNT] + [take(card) for card in DECK] + [COUNT]
     yield [rest("any"), COUNT] + [holds(card) for card in DECK]
@@ -84,6 +126,19 @@ def probes():
     # Naming one card more shows how many are named by the other condition.
     yield [hand("C2 & D2 & H2"), hand("C2 & D2"), hand("C2"), hand("S2 & SA"), hand("any"), COUNT]
     yield [rest("C2 & D2 & H2"), rest("C2 & D2"), rest("C2"), rest("S2 & SA"), rest("any"), COUNT]
+
+
+class Unchanged(unittest.TestCase):
+    def assert_refused(self, setup, call, refusal):
+        """The call is refused so, and the object is as if it had never been made."""
+        self.assertEqual(last(*setup, call), [refusal])
+        self.assert_unchanged(setup, [call])
+
+    def assert_unchanged(self, setup, calls):
+        """The object is as if these calls had never been made."""
+        for probe in probes():
+            told = ask(*setup, *calls, *probe)
+            self.assertEqual(told[len(setup) + len(calls):], ask(*setup, *probe)[len(setup):])
 
 
 def card(signs):
@@ -142,6 +197,47 @@ def meets(text, cards):
     return bool(meaning(text)(*lengths, together, {signs(number) for number in cards}))
 
 
+# Answers worked out from hands that were told otherwise
+
+def least(upper, lower):
+    fraction = Fraction(upper, lower)
+    return [0, fraction.numerator, fraction.denominator]
+
+
+def spread_of(hands):
+    """How many of these hands have these lengths (clubs first) and these points."""
+    spread = Counter()
+    for cards in hands:
+        lengths = tuple(sum(number // 13 == suit for number in cards) for suit in range(4))
+        spread[(lengths, sum(points(number) for number in cards))] += 1
+    return spread
+
+
+def shapes_answer(spread, limit):
+    counted = Counter()
+    for (lengths, together), ways in spread.items():
+        counted[lengths[::-1]] += ways
+    ordered = sorted(counted.items(), key=lambda pair: (-pair[1], -pair[0][0], -pair[0][1], -pair[0][2]))
+    answer = [0, len(ordered), min(limit, len(ordered))]
+    for lengths, ways in ordered[:limit]:
+        answer += [*lengths, ways]
+    return answer
+
+
+def points_answer(spread):
+    counted = Counter()
+    for (lengths, together), ways in spread.items():
+        counted[together] += ways
+    return [0, len(counted)] + [number for pair in sorted(counted.items()) for number in pair]
+
+
+def mean_answer(spread, what):
+    if not spread:
+        return [-7]
+    whole = sum((lengths + (together,))[what] * ways for (lengths, together), ways in spread.items())
+    return least(whole, sum(spread.values()))
+
+
 # Hands walked one by one
 
 def earlier(one, other):
@@ -156,6 +252,8 @@ class Walk:
     """All hands of a small view, and those of them that fit."""
 
     def __init__(self, x, unseen, known_in=(), known_out=(), hand_text="any", rest_text="any"):
+        self.hand_text = hand_text
+        self.rest_text = rest_text
         self.hands = []
         for hand_cards in itertools.combinations(sorted(unseen), x):
             if set(known_in) <= set(hand_cards) and not set(known_out) & set(hand_cards):
@@ -198,20 +296,24 @@ def hand_states(x, unseen, named):
     return {key: ways for key, ways in states.items() if sum(key[0]) == x}
 
 
-def count_by_states(x, unseen, hand_text, rest_text):
-    """How many hands fit, nothing known; unseen is a tuple."""
+def spread_by_states(x, unseen, hand_text, rest_text):
+    """How many hands fit by lengths (clubs first) and points, nothing known; unseen is a tuple."""
     named = frozenset(card(token) for token in tokens(hand_text) + tokens(rest_text) if token[0] in SUITS)
     whole = [sum(number // 13 == suit for number in unseen) for suit in range(4)]
     whole_points = sum(points(number) for number in unseen)
     unseen_named = {signs(number) for number in named if number in unseen}
     of_hand = meaning(hand_text)
     of_rest = meaning(rest_text)
-    count = 0
+    spread = Counter()
     for (lengths, together, held), ways in hand_states(x, unseen, named).items():
         left = [most - length for most, length in zip(whole, lengths)]
         if of_hand(*lengths, together, held) and of_rest(*left, whole_points - together, unseen_named - held):
-            count += ways
-    return count
+            spread[(lengths, together)] += ways
+    return spread
+
+
+def count_by_states(x, unseen, hand_text, rest_text):
+    return sum(spread_by_states(x, unseen, hand_text, rest_text).values())
 
 
 # Texts made at random
@@ -255,3 +357,25 @@ def random_text(dice, cards, size):
     if dice.randrange(3) == 0:
         return f"({left}){joined}( {right} )"
     return left + joined + right
+
+
+# Small views made at random
+
+def random_walk(dice):
+    """A small view with known cards and conditions on the hand and on the rest."""
+    unseen = dice.sample(DECK, dice.choice([0, 2, 8, 9, 10, 11]))
+    x = dice.randint(0, len(unseen))
+    known_in = dice.sample(unseen, dice.randint(0, x) // 2)
+    others = [number for number in unseen if number not in known_in]
+    known_out = dice.sample(others, dice.randint(0, len(unseen) - x) // 2)
+    named = dice.sample(unseen, min(2, len(unseen))) + [dice.randrange(52)]
+    texts = [random_text(dice, named, dice.randint(1, 4)) for _ in range(2)]
+    return Walk(x, unseen, known_in, known_out, *texts), unseen
+
+
+def telling_walk(dice):
+    """One in which some hands fit and some don't."""
+    while True:
+        walk, unseen = random_walk(dice)
+        if 3 < len(walk.fitting) < len(walk.hands):
+            return walk, unseen

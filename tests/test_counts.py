@@ -2,37 +2,9 @@
 
 import random
 import unittest
-from fractions import Fraction
 
-from plain import (CHANCE, COUNT, DECK, Walk, ask, card, give, hand, holds, kth, last, probes, random_text, rest,
-                   view_of)
-
-HUGE = 10 ** 18
-
-
-def least(upper, lower):
-    fraction = Fraction(upper, lower)
-    return [0, fraction.numerator, fraction.denominator]
-
-
-def random_walk(dice):
-    """A small view with known cards and conditions on the hand and on the rest."""
-    unseen = dice.sample(DECK, dice.choice([0, 2, 8, 9, 10, 11]))
-    x = dice.randint(0, len(unseen))
-    known_in = dice.sample(unseen, dice.randint(0, x) // 2)
-    others = [number for number in unseen if number not in known_in]
-    known_out = dice.sample(others, dice.randint(0, len(unseen) - x) // 2)
-    named = dice.sample(unseen, min(2, len(unseen))) + [dice.randrange(52)]
-    texts = [random_text(dice, named, dice.randint(1, 4)) for _ in range(2)]
-    return Walk(x, unseen, known_in, known_out, *texts), unseen
-
-
-def telling_walk(dice):
-    """One in which some hands fit and some don't."""
-    while True:
-        walk, unseen = random_walk(dice)
-        if 3 < len(walk.fitting) < len(walk.hands):
-            return walk, unseen
+from plain import (CHANCE, COUNT, DECK, HUGE, Unchanged, Walk, ask, card, give, hand, holds, kth, last, least,
+                   random_walk, rest, telling_walk, view_of)
 
 
 class AgainstWalk(unittest.TestCase):
@@ -150,23 +122,18 @@ class Kth(unittest.TestCase):
         self.assertEqual(ask(view_of(0, range(9)), kth(0), kth(1)), [[0, 9], [0], [-7]])
 
 
-class NothingChanged(unittest.TestCase):
+class NothingChanged(Unchanged):
     setup = [view_of(3, range(8, 19)), give(10, 1), give(11, 0), hand("CA | D4"), rest("pts > 1")]
 
-    def check(self, asked):
-        for probe in probes():
-            told = ask(*self.setup, *asked, *probe)
-            self.assertEqual(told[len(self.setup) + len(asked):], ask(*self.setup, *probe)[len(self.setup):])
-
     def test_by_counts(self):
-        self.check([COUNT, CHANCE, holds(10), holds(11), holds(12)])
+        self.assert_unchanged(self.setup, [COUNT, CHANCE, holds(10), holds(11), holds(12)])
 
     def test_by_refused_holds(self):
-        self.check([holds(0), holds(-1), holds(52)])
+        self.assert_unchanged(self.setup, [holds(0), holds(-1), holds(52)])
 
     def test_by_kth(self):
         for k in (0, 5, 10 ** 6, -1, HUGE):
-            self.check([kth(k)])
+            self.assert_unchanged(self.setup, [kth(k)])
 
 
 if __name__ == "__main__":

@@ -148,6 +148,16 @@ class Form(unittest.TestCase):
                 self.assertIn(name, OWN_NAMES, where)
                 self.assertTrue(isinstance(node, ast.Name) and isinstance(node.ctx, ast.Load), where)
 
+    def test_locals_are_not_called_like_imports_and_classes(self):
+        for path, tree in self.trees.items():
+            taken = {node.name for node in tree.body if isinstance(node, ast.ClassDef)}
+            taken |= {name.name for node in tree.body if isinstance(node, ast.ImportFrom) for name in node.names}
+            for node in ast.walk(tree):
+                if isinstance(node, ast.arg):
+                    self.assertNotIn(node.arg, taken, f"{path.name}:{node.lineno}")
+                elif isinstance(node, ast.Name) and isinstance(node.ctx, ast.Store):
+                    self.assertNotIn(node.id, taken, f"{path.name}:{node.lineno}")
+
     def test_methods_and_values(self):
         methods = {part.name for where, node in self.nodes(ast.ClassDef) for part in node.body
                    if isinstance(part, ast.FunctionDef)}

@@ -3,143 +3,16 @@
 import random
 import unittest
 
-from plain import (COUNT, RELATIONS, ask, give, hand, last, probes, random_text, rest, view_of)
+from plain import COUNT, RELATIONS, Unchanged, ask, give, hand, last, random_text, rest, view_of
+from reading import place_by_machine
 
 WORDS = ("any", "bal", "shape", "exact", "pts", "c", "d", "h", "s")
-TERMS = ("pts", "c", "d", "h", "s")
 
 
 def place_told(text):
     """None for a taken text, else the place that the refusal tells."""
     told = last(hand(text))
     return None if told == [0] or told == [-9] else -1000 - told[0]
-
-
-def pieces(text):
-    """Kind, piece and place of each token, found sign by sign."""
-    at = 0
-    while at < len(text):
-        start = at
-        sign = text[at]
-        if sign == " ":
-            at += 1
-            continue
-        if sign.islower() and sign.isascii():
-            while at < len(text) and text[at].islower() and text[at].isascii():
-                at += 1
-            yield "word", text[start:at], start
-        elif sign in "0123456789":
-            while at < len(text) and text[at] in "0123456789":
-                at += 1
-            yield "digits", text[start:at], start
-        elif sign in "CDHS" and text[at + 1:at + 2] and text[at + 1] in "23456789TJQKA":
-            at += 2
-            yield "card", text[start:at], start
-        elif text[at:at + 2] in ("<=", ">=", "!="):
-            at += 2
-            yield "sign", text[start:at], start
-        elif sign in "<>=()&|!+-":
-            at += 1
-            yield "sign", sign, start
-        else:
-            yield "bad", sign, start
-            return
-    yield "end", "", len(text)
-
-
-class Machine:
-    """Takes tokens one at a time; a state, a stack of what is unended, and no calls."""
-
-    def __init__(self):
-        self.state = "begin"
-        self.nest = []
-        self.terms = 0
-        self.low = 0
-
-    def done(self):
-        while self.nest and self.nest[-1] == "!":
-            self.nest.pop()
-        self.state = "done"
-        return True
-
-    def takes(self, kind, piece):
-        return getattr(self, "at_" + self.state)(kind, piece)
-
-    def at_begin(self, kind, piece):
-        if piece in ("!", "("):
-            self.nest.append(piece)
-            return len(self.nest) <= 20
-        if piece in ("any", "bal") or kind == "card":
-            return self.done()
-        if piece in ("shape", "exact"):
-            self.state = "lengths"
-            return True
-        self.terms = 1
-        self.state = "left"
-        return piece in TERMS
-
-    def at_lengths(self, kind, piece):
-        return kind == "digits" and len(piece) == 4 and self.done()
-
-    def more_terms(self, state):
-        self.terms += 1
-        self.state = state
-        return self.terms <= 8
-
-    def at_left(self, kind, piece):
-        if piece == "+":
-            return self.more_terms("left_term")
-        if kind == "digits":
-            self.low = int(piece)
-            self.state = "dash"
-            return len(piece) <= 2
-        self.state = "related"
-        return piece in RELATIONS
-
-    def at_left_term(self, kind, piece):
-        self.state = "left"
-        return piece in TERMS
-
-    def at_dash(self, kind, piece):
-        self.state = "high"
-        return piece == "-"
-
-    def at_high(self, kind, piece):
-        return kind == "digits" and len(piece) <= 2 and int(piece) >= self.low and self.done()
-
-    def at_related(self, kind, piece):
-        if kind == "digits":
-            return len(piece) <= 2 and self.done()
-        self.terms = 1
-        self.state = "right"
-        return piece in TERMS
-
-    def at_right(self, kind, piece):
-        if piece == "+":
-            return self.more_terms("right_term")
-        self.done()
-        return self.at_done(kind, piece)
-
-    def at_right_term(self, kind, piece):
-        self.state = "right"
-        return piece in TERMS
-
-    def at_done(self, kind, piece):
-        if piece in ("&", "|"):
-            self.state = "begin"
-            return True
-        if piece == ")" and self.nest:
-            self.nest.pop()
-            return self.done()
-        return kind == "end" and not self.nest
-
-
-def place_by_machine(text):
-    machine = Machine()
-    for kind, piece, place in pieces(text):
-        if kind == "bad" or not machine.takes(kind, piece):
-            return place
-    return None
 
 
 class RightTexts(unittest.TestCase):
@@ -306,24 +179,18 @@ class AgainstMachine(unittest.TestCase):
             self.check(text)
 
 
-class Refusals(unittest.TestCase):
+class Refusals(Unchanged):
     setup = [view_of(4, range(3, 14)), give(5, 1), give(6, 0), hand("pts >= 1 & C7"), rest("c > 2 | D2")]
 
-    def assert_refused(self, call, refusal):
-        for probe in probes():
-            told = ask(*self.setup, call, *probe)
-            self.assertEqual(told[len(self.setup)], [refusal])
-            self.assertEqual(told[len(self.setup) + 1:], ask(*self.setup, *probe)[len(self.setup):])
-
     def test_wrong_text(self):
-        self.assert_refused(hand("c >"), -1003)
-        self.assert_refused(rest("c > 3 &"), -1007)
-        self.assert_refused(hand(""), -1000)
+        self.assert_refused(self.setup, hand("c >"), -1003)
+        self.assert_refused(self.setup, rest("c > 3 &"), -1007)
+        self.assert_refused(self.setup, hand(""), -1000)
 
     def test_rows_that_are_no_texts(self):
         for wrong in ([32] * 401, [32] * 500, list(b"any") + [256], [-1] + list(b"any"), [10 ** 18], [-10 ** 18]):
-            self.assert_refused(hand(wrong), -1)
-            self.assert_refused(rest(wrong), -1)
+            self.assert_refused(self.setup, hand(wrong), -1)
+            self.assert_refused(self.setup, rest(wrong), -1)
 
     def test_ranges_go_before_the_place(self):
         self.assertEqual(last(hand("?" * 401)), [-1])
@@ -331,13 +198,13 @@ class Refusals(unittest.TestCase):
         self.assertEqual(last(hand("?" * 400)), [-1000])
 
     def test_too_many_named(self):
-        self.assert_refused(hand("C7 & C8 & C9"), -9)
-        self.assert_refused(rest("C8 | !D2 | S2"), -9)
-        self.assert_refused(hand("C2 | D3 | H4 | S5"), -9)
+        self.assert_refused(self.setup, hand("C7 & C8 & C9"), -9)
+        self.assert_refused(self.setup, rest("C8 | !D2 | S2"), -9)
+        self.assert_refused(self.setup, hand("C2 | D3 | H4 | S5"), -9)
 
     def test_place_goes_before_too_many_named(self):
-        self.assert_refused(hand("C2 | D3 | H4 | S5 |"), -1019)
-        self.assert_refused(rest("C2 | D3 | H4 | S5 )"), -1018)
+        self.assert_refused(self.setup, hand("C2 | D3 | H4 | S5 |"), -1019)
+        self.assert_refused(self.setup, rest("C2 | D3 | H4 | S5 )"), -1018)
 
     def test_three_unlike_cards_may_be_named(self):
         self.assertEqual(ask(hand("C2 & D2"), rest("S2"), rest("S2 | C2 & D2 | !S2"), hand("S2&C2&D2"),

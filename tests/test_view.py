@@ -2,19 +2,8 @@
 
 import unittest
 
-from plain import (CHANCE, COUNT, DECK, ask, card, give, hand, holds, kth, last, probes, rest, take,
-                   view, view_of)
-
-HUGE = 10 ** 18
-
-
-class Unchanged(unittest.TestCase):
-    def assert_refused(self, setup, call, refusal):
-        """The call is refused so, and the object is as if it had never been made."""
-        for probe in probes():
-            told = ask(*setup, call, *probe)
-            self.assertEqual(told[len(setup)], [refusal])
-            self.assertEqual(told[len(setup) + 1:], ask(*setup, *probe)[len(setup):])
+from plain import (CHANCE, COUNT, DECK, HUGE, Unchanged, ask, card, give, hand, holds, kth, last, rest, take, view,
+                   view_of)
 
 
 class NewObject(unittest.TestCase):

@@ -30,3 +30,7 @@ def lengths_of(cards):
 
 def card_of_signs(signs):
     return SUIT_SIGNS.index(signs[0]) * SUIT_SIZE + RANK_SIGNS.index(signs[1])
+
+
+def signs_of_card(card):
+    return SUIT_SIGNS[suit_of(card)] + RANK_SIGNS[card % SUIT_SIZE]

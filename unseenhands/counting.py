@@ -40,21 +40,24 @@ def paired_ways(first, second):
     return pairs
 
 
-# The tally of the hands that fit and are as known.
-def fitting_tally(fitting, unseen, known):
+# The rows of lengths that hands have which fit and are as known, each with its tally.
+def fitting_tallies(fitting, unseen, known):
     suits = [suit_ways(of_suit(unseen, suit), known, fitting.named) for suit in range(len(SUIT_SIGNS))]
     minors = paired_ways(suits[0], suits[1])
     majors = paired_ways(suits[2], suits[3])
-    tally = 0
+    tallies = []
     for minor_lengths, major_lengths, slots in fitting.rows:
+        tally = 0
         for block, ways in minors.get(minor_lengths, ()):
             for other_block, other_ways in majors.get(major_lengths, ()):
                 tally += ways * other_ways & slots[block | other_block]
-    return tally
+        if tally > 0:
+            tallies.append((minor_lengths + major_lengths, tally))
+    return tallies
 
 
 def count_fitting(fitting, unseen, known):
-    return total_of(fitting_tally(fitting, unseen, known))
+    return total_of(sum([tally for lengths, tally in fitting_tallies(fitting, unseen, known)]))
 
 
 # How many sets of so many there are among so many free cards.
@@ -76,3 +79,16 @@ def kth_hand(fitting, unseen, known, k):
                 k -= having
                 decided[card] = OUT
     return [card for card in unseen if decided[card] == IN]
+
+
+# How many hands that fit come before this one, which must be a hand.
+def place_of_hand(fitting, unseen, known, hand):
+    decided = dict(known)
+    before = 0
+    for card in unseen:
+        if card not in known:
+            decided[card] = IN
+            if card not in hand:
+                before += count_fitting(fitting, unseen, decided)
+                decided[card] = OUT
+    return before

@@ -1,4 +1,4 @@
-"""Which hands fit, told by their lengths, points and named cards."""
+"""Which hands fit, told by their lengths, points and named cards; which sets meet a condition."""
 
 from unseenhands.cards import lengths_of, points_together
 from unseenhands.grammar import cards_named
@@ -44,6 +44,19 @@ def side_of_rests(rows, named, unseen):
     for bit, card in enumerate(named):
         masks[card] = block_of_ones() * copies ^ held_mask(bit, len(named))
     return Side(rest_rows, points_together(unseen), -1, copies, masks)
+
+
+# One set alone: its points are its own, so no mask hangs on a hand's.
+def side_of_set(cards):
+    masks = {}
+    for card in cards:
+        masks[card] = block_of_ones()
+    return Side([lengths_of(cards)], points_together(cards), 0, block_copies(0), masks)
+
+
+# Whether these cards meet the condition with this program, whatever is unseen.
+def meets(program, cards):
+    return masks_of(program, side_of_set(cards))[0] != 0
 
 
 # The slots of each block; known_slots keeps those that were made already.

@@ -32,3 +32,13 @@ def total_of(tally):
         total += tally & SLOT_ONES
         tally >>= SLOT_BITS
     return total
+
+
+# The points that have a count, rising, each with it.
+def counts_of(tally):
+    counts = []
+    for points in range(SLOTS):
+        count = tally >> (points * SLOT_BITS) & SLOT_ONES
+        if count > 0:
+            counts.append((points, count))
+    return counts
